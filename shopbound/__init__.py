@@ -1,0 +1,1 @@
+"""Shopbound: schedules of a workshop, and why none is shorter."""
