@@ -164,9 +164,16 @@ class FormsTest(unittest.TestCase):
                 kinds = (ast.ImportFrom, ast.FunctionDef, ast.ClassDef, ast.Assign)
                 self.assertIsInstance(node, kinds, at(path, node))
                 if isinstance(node, ast.Assign):
-                    ast.literal_eval(node.value)
+                    self.plain_value(path, node.value)
             names = top_names(path)
             self.assertEqual(len(names), len(set(names)), path.name)
+
+    def plain_value(self, path, value):
+        plain = (ast.Constant, ast.List, ast.Tuple, ast.Dict, ast.Name, ast.UnaryOp, ast.USub, ast.Load)
+        for node in ast.walk(value):
+            self.assertIsInstance(node, plain, at(path, value))
+            if isinstance(node, ast.Name):
+                self.assertIn(node.id, top_names(path), at(path, value))
 
     def test_functions(self):
         for path, node in every((ast.FunctionDef, ast.Lambda)):
