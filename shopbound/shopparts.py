@@ -3,7 +3,8 @@
 Every thing is asked for its kind before it is compared or looked into: a part may be anything at all.
 """
 
-from shopbound.words import is_name, is_whole
+from shopbound.forms import are_unlike, is_list, is_one_of, is_tuple, is_within
+from shopbound.words import is_name
 
 MOST_HORIZON = 1000000
 MOST_BENCHES = 8
@@ -15,31 +16,6 @@ MOST_SETUPS = 100
 MOST_LINKS = 100
 MOST_STOCKS = 6
 MOST_AMOUNT = 1000000
-
-
-def is_within(thing, least, most):
-    """Whether a thing is a whole number from least to most."""
-    return is_whole(thing) and least <= thing <= most
-
-
-def is_list(thing, least, most):
-    """Whether a thing is a list of at least and at most so many things."""
-    return isinstance(thing, list) and least <= len(thing) <= most
-
-
-def is_tuple(thing, many):
-    """Whether a thing is a tuple of just so many parts."""
-    return isinstance(thing, tuple) and len(thing) == many
-
-
-def is_one_of(thing, names):
-    """Whether a thing is one of these names."""
-    return is_name(thing) and thing in names
-
-
-def are_unlike(things):
-    """Whether no thing stands twice among names, or tuples of names."""
-    return len(set(things)) == len(things)
 
 
 def is_break(row, horizon):

@@ -6,16 +6,14 @@ and tells the row's part of a shop, or None where the row's form is not the told
 
 from shopbound.errors import NoRow
 from shopbound.shops import Shop
-from shopbound.words import is_name
+from shopbound.words import is_name, is_numeral
 
 MOST_FIGURES = 7
 
 
 def is_number(word):
     """Whether a word writes a number: one to seven figures, no nought ahead but in 0 itself."""
-    if not 1 <= len(word) <= MOST_FIGURES or (word[0] == "0" and word != "0"):
-        return False
-    return all(["0" <= sign <= "9" for sign in word])
+    return len(word) <= MOST_FIGURES and is_numeral(word)
 
 
 def are_names(words):

@@ -7,6 +7,7 @@ import unittest
 from shopbound.orders import known_orders, sure_pairs
 from shopbound.schedules import ends_of, first_broken, length_of
 from tests.samples import chance_parts, shop_of
+from tests.slow import every_schedule
 
 
 def slow_wishes(parts, schedule):
@@ -62,17 +63,6 @@ def chance_schedule(parts, chance):
         bench = chance.choice([way[0] for way in ways] * 8 + ["b", "c", "d"])
         places[name] = (bench, chance.choice(list(range(parts["horizon"])) * 3 + [-1, parts["horizon"]]))
     return places
-
-
-def every_schedule(parts):
-    """Every schedule of a shop with each step within its moments, on a bench of its ways."""
-    names = [row[0] for row in parts["steps"]]
-    choices = [
-        [(bench, start) for bench, length in ways for start in range(parts["horizon"] - length + 1)]
-        for _, _, ways in parts["steps"]
-    ]
-    for places in itertools.product(*choices):
-        yield dict(zip(names, places))
 
 
 class LookerTest(unittest.TestCase):
