@@ -118,6 +118,11 @@ class Facts:
             return False
         return start_behind(self.grounds.breaks[bench], self.grounds.lengths[step][bench], start) == start
 
+    def may_stay(self, step):
+        """Whether the kept bench is open to a step of the kept plan, and its kept start within first and last."""
+        place = self.kept_place(step)
+        return place[0] in self.open_benches[step] and self.firsts[step] <= place[1] <= self.lasts[step]
+
     def least_on(self, step, bench):
         """The least start on a bench from the first on, in no break and not barred; perhaps too late."""
         breaks = self.grounds.breaks[bench]

@@ -145,6 +145,21 @@ class OrderTest(GoesCase):
         self.told(facts, True, two=("b", 10))
 
 
+    def test_the_setup_is_that_of_the_orders_direction(self):
+        setups = [("b", "l", "k", 7), ("b", "k", "k", 5), ("b", "l", "l", 5)]
+        facts = Facts(free_shop(setups=setups), 20, {"one": ("b", 5), "two": ("b", 8)})
+        facts.put_order("one", "two")
+        self.told(facts, True)
+
+    def test_a_step_ahead_of_that_which_is_to_be_ahead_of_it(self):
+        facts = Facts(free_shop(setups=[("b", "k", "l", 6)]), 20)
+        facts.set_open("one", ["b"])
+        facts.set_open("two", ["b"])
+        self.told(facts, True, two=("b", 3))
+        facts.put_order("one", "two")
+        self.told(facts, False, two=("b", 3))
+
+
 class KeptTest(GoesCase):
     def noted(self, most, *steps, **kept):
         facts = Facts(free_shop(), 20, None, kept, most)
