@@ -5,6 +5,8 @@ from shopbound.orders import known_orders, pairs_of
 from shopbound.placing import placed_by
 from shopbound.schedules import first_broken, length_of
 
+RULES = ("told", "long", "due", "slack")
+
 
 def built_by(shop, row):
     """The schedule built by a row of all steps, or None."""

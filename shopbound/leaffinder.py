@@ -33,19 +33,37 @@ class Ends:
         self.ends = sorted(set([r for r in ends if 0 < r <= horizon]))
 
 
+def free_between(many, breaks, l, r):
+    """The moments from l to below r of so many benches that lie in no break of theirs."""
+    return many * (r - l) - sum([moments_within(begin, end - begin, l, r) for begin, end in breaks])
+
+
+def full_end(spans, ends, many, breaks, l):
+    """An end r for a stretch from l on in which the spans have more moments than are free, or None."""
+    near = sorted([(span.last, span.moments_behind(l)) for span in spans if span.moments_behind(l) > 0])
+    most = sum([moments for last, moments in near])
+    place = 0
+    some = 0
+    for r in ends:
+        # a step that may start from r on has no overlap, and none has more than its moments behind l
+        while place < len(near) and near[place][0] < r:
+            some = some + near[place][1]
+            place = place + 1
+        free = free_between(many, breaks, l, r)
+        # the free moments grow with r
+        if free >= most:
+            return None
+        if some > free and sum([span.overlap(l, r) for span in spans]) > free:
+            return r
+    return None
+
+
 def full_stretch(spans, ends, many, breaks):
     """Ends (l, r) between which the spans overlap more than so many benches with these breaks have free, or None."""
     for l in ends.begins:
-        most = sum([span.moments_behind(l) for span in spans])
-        for r in ends.ends:
-            if r <= l or most == 0:
-                continue
-            free = many * (r - l) - sum([moments_within(begin, end - begin, l, r) for begin, end in breaks])
-            # the free moments grow with r, and the overlaps never beyond the most
-            if free >= most:
-                break
-            if sum([span.overlap(l, r) for span in spans]) > free:
-                return (l, r)
+        r = full_end(spans, [end for end in ends.ends if end > l], many, breaks, l)
+        if r is not None:
+            return (l, r)
     return None
 
 

@@ -133,8 +133,8 @@ def push_orders(push):
                 push.leave_out(other, one)
 
 
-def pushed_on(facts):
-    """A tuple (rows, leaf): rows and nots that lead on from facts, and a leaf that shuts those reached, or None."""
+def push_of(facts):
+    """Facts pushed: those reached, the rows and nots that led there, and a leaf that shuts them, or None."""
     push = Push(facts)
     told = -1
     while len(push.rows) > told and not push.is_over():
@@ -144,4 +144,10 @@ def pushed_on(facts):
             push_orders(push)
     if not push.is_over():
         push.leaf = found_leaf(push.reached)
+    return push
+
+
+def pushed_on(facts):
+    """A tuple (rows, leaf): rows and nots that lead on from facts, and a leaf that shuts those reached, or None."""
+    push = push_of(facts)
     return (push.rows, push.leaf)

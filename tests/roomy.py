@@ -5,7 +5,7 @@ import random
 from shopbound.choices import side_of
 from shopbound.facts import Facts
 from shopbound.schedules import first_broken
-from tests.samples import shop_of
+from tests.samples import names, shop_of, small_shop
 from tests.slow import every_schedule
 from tests.test_choices import choices_of
 
@@ -41,10 +41,10 @@ def roomy_parts(seed, most_steps=4, most_ways=2, horizon=None, stocks=True):
     for place, one in enumerate(STEPS):
         for other in STEPS[place + 1:]:
             if one in steps and other in steps and chance.random() < 0.15:
-                links.append((one, other, chance.randint(0, 2)))
+                links.append((one, other, min(horizon, chance.randint(0, 2))))
     kinds = ["k", "l"]
     setups = [
-        (bench, first, second, chance.randint(1, 2))
+        (bench, first, second, min(horizon, chance.randint(1, 2)))
         for bench in benches for first in kinds for second in kinds if chance.random() < 0.2
     ]
     told_stocks = []
@@ -87,3 +87,37 @@ def all_schedules(parts):
     """Every schedule that keeps a shop."""
     shop = shop_of(parts)
     return [schedule for schedule in every_schedule(parts) if first_broken(shop, schedule) is None]
+
+
+def setup_shop(many, seed):
+    """Steps on one bench that is made ready between each two of them: the more, the more boths are wanted."""
+    chance = random.Random(seed)
+    kinds = ["k" + name for name in names(many)]
+    steps = [(name, kind, [("b", chance.randint(1, 4))]) for name, kind in zip(names(many), kinds)]
+    setups = [("b", first, second, chance.randint(1, 6)) for first in kinds for second in kinds if first != second]
+    return small_shop(horizon=100, steps=steps, setups=setups)
+
+
+def trees_within(tree):
+    """A tree and all trees within it."""
+    found = [tree]
+    for row in tree[0]:
+        if row[0] == "not":
+            found.extend(trees_within(row[3]))
+    if tree[1][0] == "both":
+        found.extend(trees_within(tree[1][2]) + trees_within(tree[1][3]))
+    return found
+
+
+def boths_in(tree):
+    """How many boths a tree has."""
+    return len([inner for inner in trees_within(tree) if inner[1][0] == "both"])
+
+
+def lists_within(thing):
+    """Every list and dict within a thing."""
+    found = [thing] if isinstance(thing, (list, dict)) else []
+    if isinstance(thing, (list, tuple)):
+        for part in thing:
+            found.extend(lists_within(part))
+    return found
