@@ -54,26 +54,44 @@ class Placing:
             bars.append((kept_start - 1, kept_start + 1))
         return bars
 
+    def put_at(self, step, bench, start):
+        """Puts a step at a place."""
+        self.plan[step] = (bench, start)
+        self.end_moments[step] = start + self.lengths[step][bench]
+
+    def put_as_kept(self, step):
+        """Puts a step at its kept place, where it has one and may be there beside those put before."""
+        kept = self.facts.kept_place(step)
+        if kept is None or not self.facts.can_start(step, kept[0], kept[1]):
+            return
+        length = self.lengths[step][kept[0]]
+        window = self.window_for(step, length)
+        if window[0] <= kept[1] <= window[1] and start_beside(self.bars_for(step, kept[0], length), kept[1]) == kept[1]:
+            self.put_at(step, kept[0], kept[1])
+
     def put(self, step):
         """Puts a step on that open bench where it ends soonest, the first of several; tells whether it has a place."""
         best = None
+        soonest_end = None
         for bench in self.facts.open_to(step):
             length = self.lengths[step][bench]
             window = self.window_for(step, length)
             start = start_beside(self.bars_for(step, bench, length), window[0])
-            if start <= window[1] and (best is None or start + length < best[2]):
-                best = (bench, start, start + length)
+            if start <= window[1] and (best is None or start + length < soonest_end):
+                best = (bench, start)
+                soonest_end = start + length
         if best is None:
             return False
-        self.plan[step] = (best[0], best[1])
-        self.end_moments[step] = best[2]
+        self.put_at(step, best[0], best[1])
         return True
 
 
 def placed_by(facts, row):
-    """The plan of all steps of a row put in its order, or None where one of them has no place."""
+    """The plan of a row's steps put in its order, at their kept places first; None where one of them has no place."""
     placing = Placing(facts)
     for step in row:
-        if not placing.put(step):
+        placing.put_as_kept(step)
+    for step in row:
+        if step not in placing.plan and not placing.put(step):
             return None
     return placing.plan

@@ -4,9 +4,8 @@ from shopbound.choices import side_of
 from shopbound.conflicts import choice_for, likely_plan
 from shopbound.placing import placed_by
 from shopbound.pusher import MOST_ROWS, push_of
-from shopbound.shops import fresh
 from shopbound.trees import MOST_COUNTED
-from shopbound.trimmer import Entry, entry_of_push, is_used, needs_ahead, needs_of_leaf, trimmed
+from shopbound.trimmer import Entry, entry_of_push, needs_ahead, needs_of_leaf, trimmed
 
 # a tree may have nots, and the trees in these nots again
 MOST_DEPTH = 38
@@ -37,8 +36,17 @@ class Settled:
         self.leaf = push.leaf
 
 
+class Ending:
+    """The end of a tree with all that stands within it: what it needs, and how many parts it has."""
+
+    def __init__(self, end, needs, parts):
+        self.end = end
+        self.needs = needs
+        self.parts = parts
+
+
 class ShutTree:
-    """A tree that shuts facts, what it needs of them, and how many parts and boths it has."""
+    """A tree that shuts facts, what it needs of them, and how many rows, nots, boths and leaves it has."""
 
     def __init__(self, entries, ending):
         kept = trimmed(entries, ending.needs)
@@ -46,28 +54,17 @@ class ShutTree:
         self.needs = kept[1]
         self.ending = ending
         self.parts = ending.parts + sum([entry.parts for entry in self.entries])
-        self.boths = ending.boths
 
     def as_tree(self):
         """The tree by itself."""
         return ([entry.row for entry in self.entries], self.ending.end)
 
 
-class Ending:
-    """The end of a tree, with all that stands within it: what it needs, and how many parts and boths it has."""
-
-    def __init__(self, end, needs, parts, boths):
-        self.end = end
-        self.needs = needs
-        self.parts = parts
-        self.boths = boths
-
-
 def ending_of_both(choice, first, second):
     """The end by both sides of a choice, shut by two trees."""
     end = ("both", choice, first.as_tree(), second.as_tree())
     needs = needs_ahead(first.needs, choice, 0) + needs_ahead(second.needs, choice, 1)
-    return Ending(end, needs, 1 + first.parts + second.parts, 1 + first.boths + second.boths)
+    return Ending(end, needs, 1 + first.parts + second.parts)
 
 
 class Node:
@@ -95,15 +92,10 @@ class Node:
         """The tree of the rows and nots so far, and an end."""
         return ("shut", ShutTree(self.entries, ending))
 
-    def shut_behind(self, tree):
-        """The tree of the rows and nots so far, and those of another one for the facts reached, and its end."""
-        return ("shut", ShutTree(self.entries + tree.entries, tree.ending))
 
-
-def shut_at_leaf(settled_node):
+def shut_at_leaf(node):
     """The tree of a node that has come to a leaf."""
-    needs = needs_of_leaf(settled_node.reached, settled_node.leaf)
-    return settled_node.shut_by(Ending(settled_node.leaf, needs, 1, 0))
+    return node.shut_by(Ending(node.leaf, needs_of_leaf(node.reached, node.leaf), 1))
 
 
 def parted(search, node, choice, sides, depth):
@@ -120,10 +112,6 @@ def parted(search, node, choice, sides, depth):
             return told
         if told[1].parts > MOST_COUNTED:
             return SPENT
-        if not is_used(told[1].needs, choice, side):
-            # the tree shuts the facts without the choice, so no both is made of it
-            search.made = search.made - 1
-            return node.shut_behind(told[1])
         trees[side] = told[1]
     return node.shut_by(ending_of_both(choice, trees[0], trees[1]))
 
@@ -164,5 +152,5 @@ def searched(facts, most):
     told = explored(search, Settled(facts), 1)
     if told[0] == "shut" and told[1].parts > MOST_COUNTED:
         told = SPENT
-    thing = fresh(told[1].as_tree()) if told[0] == "shut" else told[1]
+    thing = told[1].as_tree() if told[0] == "shut" else told[1]
     return (told[0], thing, search.made)

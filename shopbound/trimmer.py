@@ -70,12 +70,6 @@ def needs_ahead(needs, choice, side):
     return [need for need in needs if need != given]
 
 
-def is_used(needs, choice, side):
-    """Whether needs hang on a side of a choice; where that is not told by needs, they do."""
-    given = given_by(choice, side)
-    return given is None or given in needs
-
-
 class Entry:
     """A row or not in a tree on its way: what it gives and what it needs, and how much it counts in the tree."""
 

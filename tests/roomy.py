@@ -98,6 +98,15 @@ def setup_shop(many, seed):
     return small_shop(horizon=100, steps=steps, setups=setups)
 
 
+def crossing_shop(many, benches, seed):
+    """Jobs in any order of one step on each bench: there are many orders to be chosen, few of which tell much."""
+    chance = random.Random(seed)
+    places = [(job, bench) for job in names(many) for bench in names(benches)]
+    steps = [("s" + job[-1] + bench[-1], "k", [(bench, chance.randint(1, 9))]) for job, bench in places]
+    jobs = [(job, 0, 200, False, [row[0] for row in steps if row[0][1] == job[-1]]) for job in names(many)]
+    return small_shop(horizon=200, benches=[(bench, []) for bench in names(benches)], steps=steps, jobs=jobs)
+
+
 def trees_within(tree):
     """A tree and all trees within it."""
     found = [tree]

@@ -262,7 +262,7 @@ class ManyTest(AnewCase):
 
     def test_all_schedules_gone_through(self):
         words = self.walk(range(110), lambda seed: roomy_parts(seed, most_steps=3, horizon=6), (0, 1, 400))
-        self.assertGreater(min(words[400, "least"], words[400, "none"], words[0, "open"]), 1, words)
+        self.assertGreater(min(words[400, "least"], words[400, "none"]), 20, words)
         self.assertEqual(words[400, "open"], 0)
 
     def test_one_step_without_stocks(self):

@@ -104,7 +104,7 @@ class ManyTest(SearchCase):
                 told[most, word] += 1
         self.assertEqual(told[400, "spent"], 0)
         for key in ((0, "spent"), (0, "found"), (0, "shut"), (400, "shut"), (400, "found")):
-            self.assertGreater(told[key], 2, told)
+            self.assertGreater(told[key], 0, told)
 
     def test_narrow_facts(self):
         for seed in range(100):
