@@ -67,6 +67,11 @@ class DrawTest(unittest.TestCase):
         self.assertTrue(bracket.is_closed())
         self.assertEqual(asked.sizes[-1], 39)
 
+    def test_spent_right_below_the_top(self):
+        asked = Asked(40, spent=[39])
+        self.assertEqual(self.drawn(asked, 3, 40, {"size": 40}).low, 39)
+        self.assertEqual(asked.sizes.count(39), 1)
+
     def test_all_is_spent(self):
         asked = Asked(20, spent=range(100))
         bracket = self.drawn(asked, 3, 40, {"size": 40})
@@ -79,8 +84,10 @@ class DrawTest(unittest.TestCase):
         self.assertFalse(bracket.is_closed())
         bracket = self.drawn(Asked(20), 3, 40, None, 39)
         self.assertTrue(bracket.is_closed())
-        bracket = self.drawn(Asked(20, spent=range(100)), 3, 40, None, 39)
+        asked = Asked(20, spent=range(100))
+        bracket = self.drawn(asked, 3, 40, None, 39)
         self.assertEqual((bracket.low, bracket.top, bracket.schedule), (3, 40, None))
+        self.assertNotIn(39, asked.sizes)
 
     def test_no_schedule_though_the_low_is_at_the_top(self):
         self.assertFalse(Bracket(7, None, 7, None).is_closed())
