@@ -289,5 +289,60 @@ class NamesTest(unittest.TestCase):
                     self.assertIn(id(node), good, at(path, node))
 
 
+class CallsTest(unittest.TestCase):
+    KEYWORDS = {
+        "sorted": ("key", "reverse"), "min": ("key", "default"), "max": ("key", "default"), "sum": ("start",),
+        "enumerate": ("start",), "zip": ("strict",),
+    }
+
+    def test_keywords(self):
+        own = own_methods() | {node.name for _, node in every(ast.FunctionDef)}
+        for path, node in every(ast.Call):
+            called = node.func.id if isinstance(node.func, ast.Name) else node.func.attr
+            for keyword in node.keywords:
+                self.assertTrue(called in own or keyword.arg in self.KEYWORDS.get(called, ()), at(path, node))
+
+    def test_methods_and_pythons_own_are_called_where_they_stand(self):
+        methods = own_methods() | set(METHODS)
+        for path in files():
+            tree = ast.parse(path.read_text(encoding="utf-8"))
+            let_by = set()
+            for node in ast.walk(tree):
+                if isinstance(node, ast.Call):
+                    let_by.add(id(node.func))
+                    let_by.update(id(keyword.value) for keyword in node.keywords if keyword.arg == "key")
+            for node in ast.walk(tree):
+                if isinstance(node, ast.Attribute) and node.attr in methods:
+                    self.assertIn(id(node), let_by, at(path, node))
+                if isinstance(node, ast.Name) and node.id in BUILTINS and id(node) not in let_by:
+                    self.assertIn(node.id, ERRORS + "int str bool list tuple dict".split(), at(path, node))
+
+    def test_what_is_walked_at_once_is_not_kept(self):
+        walked = ("zip", "enumerate", "reversed", "range", "items", "keys", "values")
+        for path, node in every((ast.Assign, ast.Return)):
+            if isinstance(node.value, ast.Call):
+                called = node.value.func
+                name = called.id if isinstance(called, ast.Name) else called.attr
+                self.assertNotIn(name, walked, at(path, node))
+
+    def test_what_a_loop_walks_is_not_changed_in_it(self):
+        changes = "append clear extend insert pop remove reverse setdefault update".split()
+        for path, loop in every(ast.For):
+            walked = {ast.dump(part) for part in ast.walk(loop.iter) if isinstance(part, (ast.Name, ast.Attribute))}
+            for part in loop.body:
+                for node in ast.walk(part):
+                    if isinstance(node, ast.Call) and isinstance(node.func, ast.Attribute) and node.func.attr in changes:
+                        self.assertNotIn(ast.dump(node.func.value), walked, at(path, node))
+
+    def test_errors_are_made_where_they_are_raised(self):
+        for path, node in every(ast.Raise):
+            self.assertIsInstance(node.exc, ast.Call, at(path, node))
+
+    def test_no_power_but_a_written_one(self):
+        for path, node in every(ast.BinOp):
+            if isinstance(node.op, ast.Pow):
+                self.assertIsInstance(node.right, ast.Constant, at(path, node))
+
+
 if __name__ == "__main__":
     unittest.main()
