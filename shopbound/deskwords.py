@@ -5,7 +5,7 @@ from shopbound.errors import NoSay
 from shopbound.shopreader import is_number
 from shopbound.words import is_name
 
-# what stands behind the first word of each row; "text" stands for all words that are left, perhaps none
+# what stands behind the first word of each row; "text" stands for all behind its blank, perhaps no sign
 FORMS = {
     "shop": ("name", "text"),
     "plan": ("name", "text"),
@@ -28,11 +28,6 @@ def is_number_to(word, most):
     return is_number(word) and int(word) <= most
 
 
-def has_one_blank_between(text):
-    """Whether a text is words of signs with one blank between, or has no signs."""
-    return text == "" or "" not in text.split(" ")
-
-
 def has_form(word, form):
     """Whether a word may stand at its place in a row."""
     if form == "rule":
@@ -44,7 +39,8 @@ def has_form(word, form):
     if form == "boths":
         return is_number_to(word, MOST_BOTHS)
     if form == "text":
-        return has_one_blank_between(word)
+        # blanks too many in it are for the stage that reads it to refuse
+        return True
     return is_name(word)
 
 

@@ -304,14 +304,45 @@ class RefusedTest(DeskCase):
         "bound s 9 q", "tree", f"check s 5 {TREE}", "day s p 0 20 9 q",
     )
 
+    # how many words stand ahead of the TEXT of such a row, and what refuses a TEXT with a blank too many
+    TEXTS = {"shop": (2, NoRow), "plan": (2, NoPlan), "check": (3, NoTree)}
+
     def test_blanks_more_ahead_and_behind(self):
         desk = ready()
         for row in self.GOOD:
             ready().say(row)
-            for bad in (" " + row, row + " ", row.replace(" ", "  ") + " ", row.replace(" ", "  ", 1) + " "):
+            words_ahead, error = self.TEXTS.get(row.split(" ")[0], (len(row), NoSay))
+            for bad in (" " + row, row.replace(" ", "  ") + " ", row.replace(" ", "  ", 1) + " "):
                 self.refuses(desk, bad, NoSay)
-            for place in [place for place, sign in enumerate(row) if sign == " "]:
-                self.refuses(desk, row[:place] + " " + row[place:], NoSay)
+            self.refuses(desk, row + " ", error)
+            places = [place for place, sign in enumerate(row) if sign == " "]
+            for blank, place in enumerate(places, start=1):
+                self.refuses(desk, row[:place] + " " + row[place:], NoSay if blank < words_ahead else error)
+
+    def test_blanks_more_in_the_text_of_a_shop(self):
+        desk = ready()
+        for text, row in (
+            (" horizon 1; bench a; step a a a/1", 0), ("horizon  1; bench a; step a a a/1", 0), ("horizon 1 ; bench a", 0),
+            ("horizon 1;  bench a; step a a a/1", 1), ("horizon 1; bench a ; step a a a/1", 1), ("horizon 1; ", 1),
+            ("horizon 1; ; bench a", 1), ("horizon 1; bench a; step a a a/1 ", 2), ("horizon 1; bench a; step a a a/1; ", 3),
+            (" ", 0), ("  ", 0), ("; ", 0), (" ; ", 0),
+        ):
+            for name in ("s", "new"):
+                self.assertEqual(self.refuses(desk, f"shop {name} {text}", NoRow).row, row, repr(text))
+
+    def test_blanks_more_in_the_text_of_a_plan(self):
+        desk = ready()
+        for text in (" a b 1", "a  b 1", "a b  1", "a b 1 ", "a b 1; ", "a b 1;  c b 2", "a b 1 ; c b 2", "a b 1; ; c b 2",
+                     "a b 1; c b 2 ", " ", "  ", "; ", " ; "):
+            for name in ("p", "new"):
+                self.refuses(desk, f"plan {name} {text}", NoPlan)
+
+    def test_blanks_more_in_the_text_of_a_tree(self):
+        desk = ready()
+        for text in (" ; window one", ";  window one", "; window  one", "; window one ", "fit one  ; window one",
+                     "fit  one ; window one", "; ring one ", "; ring one  two", "; stretch 0 6 b ", "; stretch 0 6  b",
+                     "; both keep one [  ; moved ] [ ; moved ]", "; both keep one [ ; moved ] [ ; moved ] ", " ", "  ", "; "):
+            self.refuses(desk, f"check s 0 {text}", NoTree)
 
     def test_line_feeds_and_tabs(self):
         desk = ready()
@@ -387,7 +418,9 @@ class RefusedTest(DeskCase):
         self.refuses(desk, "build new best q", NoSay)
         self.refuses(desk, "look new P", NoSay)
         self.refuses(desk, "check new 10000000 fit", NoSay)
-        self.refuses(desk, "check new 5  fit", NoSay)
+        self.refuses(desk, "check new  5 fit", NoSay)
+        self.refuses(desk, "check new 5  fit", NoName)
+        self.refuses(desk, "check s 21  fit", NoSay)
         self.refuses(desk, "check new 21 fit", NoName)
         self.refuses(desk, "day s new 21 20 9 q", NoName)
         self.refuses(desk, "day new new 21 21 9 q", NoName)
